@@ -1,0 +1,1 @@
+"""Nestwright: polynomials of one letter, with fractions, put into one another."""

@@ -1,0 +1,91 @@
+"""What the tests hold the program against: Python's own Fraction, and lists of them."""
+
+import random
+from fractions import Fraction
+
+FORTY = int("7" * 40)
+OTHER_FORTY = int("9" * 39 + "8")
+
+X = ((0, 1), 1)
+NOUGHT = ((), 1)
+
+
+def number(top, bottom=1):
+    """The polynomial of a number alone, in its one form."""
+    r = Fraction(top, bottom)
+    return ((r.numerator,), r.denominator) if r else NOUGHT
+
+
+def pair(r):
+    r = Fraction(r)
+    return (r.numerator, r.denominator)
+
+
+def pairs(*some):
+    return [pair(r) for r in some]
+
+
+def listed(p):
+    """A polynomial's fractions, that at 0 first."""
+    return [Fraction(top, p[1]) for top in p[0]]
+
+
+def trimmed(some):
+    some = list(some)
+    while some and some[-1] == 0:
+        some.pop()
+    return some
+
+
+def sum_of(one, other):
+    many = max(len(one), len(other))
+    one = one + [Fraction(0)] * (many - len(one))
+    other = other + [Fraction(0)] * (many - len(other))
+    return trimmed(a + b for a, b in zip(one, other))
+
+
+def product_of(one, other):
+    made = [Fraction(0)] * (len(one) + len(other))
+    for i, a in enumerate(one):
+        for k, b in enumerate(other):
+            made[i + k] += a * b
+    return trimmed(made)
+
+
+def power_of(one, k):
+    made = [Fraction(1)]
+    for _ in range(k):
+        made = product_of(made, one)
+    return made
+
+
+def put_into(one, other):
+    """By the powers of the inner one, unlike the program, which goes from the lead down."""
+    made = []
+    for k, r in enumerate(one):
+        made = sum_of(made, product_of([r], power_of(other, k)))
+    return made
+
+
+def value_at(one, r):
+    return sum((a * r ** k for k, a in enumerate(one)), Fraction(0))
+
+
+def some_fractions(seed, many, figures=3):
+    """Fractions that are the same at each run, noughts and both signs among them."""
+    source = random.Random(seed)
+    most = 10 ** figures - 1
+    told = []
+    for _ in range(many):
+        bottom = source.choice([1, 1, 2, 3, 4, 6, source.randint(1, most)])
+        told.append(Fraction(source.choice([0, 1, -1, source.randint(-most, most)]), bottom))
+    return told
+
+
+def some_lists(seed, many, degree, figures=3):
+    """Lists of fractions of polynomials of degrees -1 to degree."""
+    source = random.Random(seed)
+    return [
+        trimmed(some_fractions(source.randint(0, 10 ** 9), source.randint(0, degree + 1), figures))
+        for _ in range(many)
+    ]
