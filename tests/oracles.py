@@ -1,10 +1,13 @@
 """What the tests hold the program against: Python's own Fraction, and lists of them."""
 
 import random
+import re
 from fractions import Fraction
 
 FORTY = int("7" * 40)
 OTHER_FORTY = int("9" * 39 + "8")
+
+FRACTION = r"(?:0|[1-9][0-9]{0,39})(?:/[1-9][0-9]{0,39})?"
 
 X = ((0, 1), 1)
 NOUGHT = ((), 1)
@@ -71,6 +74,15 @@ def value_at(one, r):
     return sum((a * r ** k for k, a in enumerate(one)), Fraction(0))
 
 
+def is_fraction(text):
+    """By the rules of the document, one by one, unlike the program, which tells it again."""
+    found = re.fullmatch(rf"-?{FRACTION}", text)
+    if not found or text == "-0":
+        return False
+    top, slash, bottom = text.partition("/")
+    return not slash or (bottom != "1" and Fraction(text).denominator == int(bottom))
+
+
 def some_fractions(seed, many, figures=3):
     """Fractions that are the same at each run, noughts and both signs among them."""
     source = random.Random(seed)
@@ -89,3 +101,31 @@ def some_lists(seed, many, degree, figures=3):
         trimmed(some_fractions(source.randint(0, 10 ** 9), source.randint(0, degree + 1), figures))
         for _ in range(many)
     ]
+
+
+def some_term(source, names, depth):
+    """A term of any sort, at most so deep, over these names."""
+    leaves = ["x", "number"] + ["name"] * (2 if names else 0)
+    sort = source.choice(leaves if depth <= 1 else leaves + "plus minus times of power again".split() * 2)
+    if sort == "x":
+        return ("x",)
+    if sort == "number":
+        return ("number", pair(Fraction(source.randint(-9, 9), source.randint(1, 5))))
+    if sort == "name":
+        return ("name", source.choice(names))
+    first = some_term(source, names, depth - 1)
+    if sort in ("power", "again"):
+        return (sort, first, source.randint(0, 6))
+    return (sort, first, some_term(source, names, depth - 1))
+
+
+def some_reckonings(seed, many, depth=3):
+    """Reckonings of one to six rows, each over the names of the rows ahead."""
+    source = random.Random(seed)
+    told = []
+    for _ in range(many):
+        names = ["a", "b", "xx", "ofx", "number", "z"][:source.randint(1, 6)]
+        told.append(tuple(
+            (name, some_term(source, names[:at], depth)) for at, name in enumerate(names)
+        ))
+    return told
