@@ -3,6 +3,7 @@
 import random
 import re
 from fractions import Fraction
+from math import lcm
 
 FORTY = int("7" * 40)
 OTHER_FORTY = int("9" * 39 + "8")
@@ -72,6 +73,88 @@ def put_into(one, other):
 
 def value_at(one, r):
     return sum((a * r ** k for k, a in enumerate(one)), Fraction(0))
+
+
+def poly_of(some):
+    """The polynomial of a list of fractions, in its one form."""
+    some = trimmed(Fraction(r) for r in some)
+    bottom = lcm(*[r.denominator for r in some])
+    return (tuple(int(r * bottom) for r in some), bottom)
+
+
+def at(p, k):
+    """The fraction of a polynomial at k, 0 beyond the degree."""
+    return Fraction(p[0][k], p[1]) if k < len(p[0]) else Fraction(0)
+
+
+def degree_of(p):
+    return len(p[0]) - 1
+
+
+def line(a, b):
+    """The straight polynomial a x + b."""
+    return poly_of([b, a])
+
+
+def nested(*layers):
+    """The polynomial that these come to, the outermost first."""
+    made = [Fraction(0), Fraction(1)]
+    for layer in layers:
+        made = put_into(made, listed(layer))
+    return poly_of(made)
+
+
+def scaled_power(h, k, r):
+    """h to the power k, multiplied with r."""
+    return poly_of(product_of([Fraction(r)], power_of(listed(h), k)))
+
+
+def digits_sum(parts, h):
+    """What these come to, each times a power of h."""
+    made = []
+    for i, part in enumerate(parts):
+        made = sum_of(made, product_of(listed(part), power_of(listed(h), i)))
+    return poly_of(made)
+
+
+def is_neat_layer(h):
+    return at(h, degree_of(h)) == 1 and at(h, 0) == 0
+
+
+def is_neat(chain):
+    return all(is_neat_layer(layer) for layer in chain[1:])
+
+
+def angles(n, r):
+    """The polynomial of turned angles of degree n, by r."""
+    one, other = [Fraction(2)], [Fraction(0), Fraction(1)]
+    for _ in range(n):
+        one, other = other, sum_of([Fraction(0)] + other, product_of([Fraction(-r)], one))
+    return poly_of(one)
+
+
+def letter_to(n):
+    """The letter to the power n."""
+    return ((0,) * n + (1,), 1)
+
+
+def some_polys(seed, many, low, high, figures=2):
+    """Polynomials of degrees low to high, the same at each run."""
+    source = random.Random(seed)
+    told = []
+    for _ in range(many):
+        some = some_fractions(source.randint(0, 10 ** 9), source.randint(low, high) + 1, figures)
+        some[-1] = some[-1] or Fraction(source.choice([1, -1, 3]), source.choice([1, 2, 5]))
+        told.append(poly_of(some))
+    return told
+
+
+def great_poly(seed, degree, figures=40):
+    """A polynomial with whole numbers of so many figures at every place."""
+    source = random.Random(seed)
+    low, high = 10 ** (figures - 1), 10 ** figures - 1
+    bottom = source.randint(low, high)
+    return poly_of([Fraction(source.choice([1, -1]) * source.randint(low, high), bottom) for _ in range(degree + 1)])
 
 
 def is_fraction(text):
