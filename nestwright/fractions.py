@@ -35,3 +35,11 @@ def multiplied(one, other):
 def divided(one, other):
     """The one divided by the other one, which isn't 0."""
     return fraction(one[0] * other[1], one[1] * other[0])
+
+
+def fraction_power(r, k):
+    """A fraction to the power k."""
+    made = (1, 1)
+    for step in range(k):
+        made = multiplied(made, r)
+    return made

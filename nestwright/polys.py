@@ -20,12 +20,18 @@ def one_form(tops, bottom):
     return (tuple([top // part for top in tops[:many]]), bottom // part)
 
 
-def poly(some):
-    """The polynomial of a list or tuple of fractions, that at 0 first."""
+def over_one_bottom(some):
+    """The tops of fractions over the least bottom that all of them can have, and that bottom."""
     bottom = 1
     for r in some:
         bottom *= r[1] // common_part(bottom, r[1])
-    return one_form([r[0] * (bottom // r[1]) for r in some], bottom)
+    return ([r[0] * (bottom // r[1]) for r in some], bottom)
+
+
+def poly(some):
+    """The polynomial of a list or tuple of fractions, that at 0 first."""
+    tops, bottom = over_one_bottom(some)
+    return one_form(tops, bottom)
 
 
 def fraction_at(p, k):

@@ -1,6 +1,6 @@
 """Reckonings worked out to a polynomial, or valued at a fraction."""
 
-from nestwright.fractions import added, multiplied, taken
+from nestwright.fractions import added, fraction_power, multiplied, taken
 from nestwright.polys import minus, plus, poly, power, times
 from nestwright.puts import again, put
 
@@ -39,14 +39,6 @@ def worked(reckoning):
     for name, term in reckoning:
         known[name] = term_poly(term, known)
     return known[reckoning[-1][0]]
-
-
-def fraction_power(r, k):
-    """A fraction to the power k."""
-    made = (1, 1)
-    for step in range(k):
-        made = multiplied(made, r)
-    return made
 
 
 def row_value(name, r, terms, found):

@@ -138,6 +138,35 @@ def letter_to(n):
     return ((0,) * n + (1,), 1)
 
 
+def by_powers(r, p, k):
+    """x ** r times p to the power k, and x ** r times p of x ** k."""
+    outer = product_of(listed(letter_to(r)), power_of(listed(p), k))
+    within = product_of(listed(letter_to(r)), listed(nested(p, letter_to(k))))
+    return poly_of(outer), poly_of(within)
+
+
+def degrees(chain):
+    """The degrees of a chain's layers."""
+    return [degree_of(layer) for layer in chain]
+
+
+def line_back(l):
+    """The straight polynomial that comes to x with l."""
+    return line(1 / at(l, 1), -at(l, 0) / at(l, 1))
+
+
+def changed(p, k, by=Fraction(1, 3)):
+    """A polynomial with its fraction at k changed."""
+    some = listed(p) + [Fraction(0)] * (k + 1)
+    some[k] += by
+    return poly_of(some)
+
+
+def with_one(some, place, other):
+    """A tuple with another thing at one place."""
+    return some[:place] + (other,) + some[place + 1:]
+
+
 def some_polys(seed, many, low, high, figures=2):
     """Polynomials of degrees low to high, the same at each run."""
     source = random.Random(seed)

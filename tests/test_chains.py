@@ -5,7 +5,7 @@ from nestwright.apart import inner_degrees
 from nestwright.chains import chains, neat, together
 from nestwright.puts import again, put
 from tests.oracles import (
-    angles, degree_of, great_poly, is_neat, letter_to, line, listed, nested, poly_of, some_polys,
+    angles, degree_of, degrees, great_poly, is_neat, letter_to, line, listed, nested, poly_of, some_polys,
 )
 
 ONE = [(f,) for f in some_polys(101, 10, 2, 12)]
@@ -16,10 +16,6 @@ THREE = [
 ]
 GREAT = [(great_poly(1, 3), great_poly(2, 4)), (great_poly(3, 3), great_poly(4, 2), great_poly(5, 2))]
 CHAINS = ONE + TWO + THREE + GREAT
-
-
-def degrees(chain):
-    return [degree_of(layer) for layer in chain]
 
 
 class Together(unittest.TestCase):

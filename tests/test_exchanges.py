@@ -5,21 +5,10 @@ from nestwright.chains import chains, neat, together
 from nestwright.exchanges import exchanged, led
 from nestwright.puts import put
 from tests.oracles import (
-    angles, degree_of, great_poly, is_neat, letter_to, line, listed, nested, poly_of, power_of, product_of, some_polys,
+    angles, by_powers, degree_of, degrees, great_poly, is_neat, letter_to, line, nested, some_polys,
 )
 
 SQUARE, CUBE = letter_to(2), letter_to(3)
-
-
-def degrees(chain):
-    return [degree_of(layer) for layer in chain]
-
-
-def by_powers(r, p, k):
-    """x ** r times p to the power k, and x ** r times p of x ** k."""
-    outer = product_of(listed(letter_to(r)), power_of(listed(p), k))
-    within = product_of(listed(letter_to(r)), listed(nested(p, letter_to(k))))
-    return poly_of(outer), poly_of(within)
 
 
 def swapped(row, i):

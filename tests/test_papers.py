@@ -7,8 +7,8 @@ from nestwright.inner import candidate, digits
 from nestwright.papers import chain_holds, chain_papers, degrees_by, paper_holds, paper_of
 from nestwright.puts import put
 from tests.oracles import (
-    NOUGHT, X, angles, degree_of, digits_sum, great_poly, letter_to, line, listed, nested, number, poly_of,
-    some_polys,
+    NOUGHT, X, angles, changed, degree_of, digits_sum, great_poly, letter_to, line, listed, nested, number, poly_of,
+    some_polys, with_one,
 )
 
 SAMPLES = some_polys(111, 25, 2, 12) + [
@@ -21,17 +21,6 @@ BARRED = ((0, 1, 0, 1, 0, 0, 0, 0, 0, 0, 5, 0, 2), 3)
 
 def between(n):
     return [s for s in range(2, n) if n % s == 0]
-
-
-def changed(p, k, by=Fraction(1, 3)):
-    """A polynomial with its fraction at k changed."""
-    some = listed(p) + [Fraction(0)] * (k + 1)
-    some[k] += by
-    return poly_of(some)
-
-
-def with_pair(paper, at_place, pair):
-    return paper[:at_place] + (pair,) + paper[at_place + 1:]
 
 
 class Papers(unittest.TestCase):
@@ -101,7 +90,7 @@ class WrongPapers(unittest.TestCase):
                 yield f, paper, place, paper[place][0], paper[place][1]
 
     def refuse(self, f, paper, place, pair):
-        self.assertIs(paper_holds(f, with_pair(paper, place, pair)), False, (f, place, pair))
+        self.assertIs(paper_holds(f, with_one(paper, place, pair)), False, (f, place, pair))
 
     def test_a_fraction_of_h(self):
         for f, paper, place, h, parts in self.cases():
